@@ -3,6 +3,7 @@ package coffer
 
 import (
 	"coffer/api"
+	"coffer/flow"
 	"coffer/wire"
 )
 
@@ -16,7 +17,13 @@ func Decode(b string) (api.Module, api.Errno, int) { return wire.ReadModule(b) }
 func Encode(m api.Module) (string, api.Errno) { return wire.WriteModule(m) }
 
 // Check tells whether a module's code can go wrong (P5).
-func Check(b string) (api.Errno, int) { return api.OK, 0 }
+func Check(b string) (api.Errno, int) {
+	m, e, at := wire.ReadModule(b)
+	if e != api.OK {
+		return e, at
+	}
+	return flow.CheckModule(m)
+}
 
 // New makes a ledger with a module (P6).
 func New(b string) (*Ledger, api.Errno) { return nil, api.OK }
