@@ -172,11 +172,13 @@ func TestCheckOfEveryShortFunction(t *testing.T) {
 
 // maker writes code that goes well: each piece leaves the stack and the places as they were.
 type maker struct {
-	r     *rand.Rand
-	m     *api.Module
-	f     *api.Func
-	left  int // so many values may still be laid on the stack
-	empty map[int]bool
+	r      *rand.Rand
+	m      *api.Module
+	f      *api.Func
+	left   int // so many values may still be laid on the stack
+	empty  map[int]bool
+	vary   bool // numbers come from all sorts of code, and most loops end: code to be run
+	script bool // things are made and stored by the module's functions alone: see madeHouse
 }
 
 func (g *maker) add(op, arg int) int {
@@ -186,12 +188,19 @@ func (g *maker) add(op, arg int) int {
 
 // get puts a value of a kind.
 func (g *maker) get(kind int) {
-	if kind > 0 && g.r.Intn(2) == 0 {
+	if kind > 0 && !g.script && g.r.Intn(2) == 0 {
 		g.add(api.Fetch, kind)
 		return
 	}
-	g.add(api.Push, g.r.Intn(256))
-	if kind > 0 {
+	if g.vary {
+		g.number(2)
+	} else {
+		g.add(api.Push, g.r.Intn(256))
+	}
+	switch {
+	case kind > 0 && g.script:
+		g.add(api.Call, 2*kind-2)
+	case kind > 0:
 		g.add(api.Make, kind)
 	}
 }
@@ -201,6 +210,9 @@ func (g *maker) rid(kind int) {
 	switch {
 	case kind == 0 || (g.m.Kinds[kind-1] >= 2 && g.r.Intn(2) == 0):
 		g.add(api.Drop, 0)
+	case g.script:
+		g.add(api.Push, g.r.Intn(9))
+		g.add(api.Call, 2*kind-1)
 	case g.r.Intn(2) == 0 && g.left > 1:
 		g.add(api.Push, g.r.Intn(8))
 		g.add(api.Store, kind)
@@ -224,7 +236,7 @@ func (g *maker) pieces(deep int) {
 }
 
 func (g *maker) piece(deep int) {
-	if deep == 0 || g.left < 5 || len(g.f.Code) > 55 {
+	if deep == 0 || g.left < 5 || len(g.f.Code) > 55 || g.vary && g.left < 7 {
 		return
 	}
 	kind := g.r.Intn(len(g.m.Kinds) + 1)
@@ -247,9 +259,14 @@ func (g *maker) piece(deep int) {
 		over := g.add(api.Jump, 0)
 		g.f.Code[from].Arg = len(g.f.Code)
 		g.pieces(deep - 1)
+		g.f.Code[over].Arg = len(g.f.Code)
 		g.get(0)
-		g.f.Code[over].Arg = g.add(api.Drop, 0) - 1
+		g.add(api.Drop, 0)
 	case 3: // again and again
+		if g.vary {
+			g.count(deep)
+			return
+		}
 		from := len(g.f.Code)
 		g.pieces(deep - 1)
 		g.get(0)
@@ -332,6 +349,7 @@ func (g *maker) write(f *api.Func) {
 	g.pieces(4)
 	for p, kind := range f.Params {
 		g.add(api.Move, p)
+		g.empty[p] = true
 		g.rid(kind)
 	}
 	for _, kind := range f.Results {

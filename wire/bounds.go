@@ -1,4 +1,4 @@
-// Package wire reads and writes the bytes of modules.
+// Package wire reads and writes the bytes of modules, and reads those of scripts.
 package wire
 
 import "coffer/api"
